@@ -1,0 +1,87 @@
+"""The form of the program: the interface's names and arguments, and the rules that a glance can check."""
+
+import ast
+import inspect
+import pathlib
+import unittest
+
+from stillruns import editions, kinds, terms
+
+PACKAGE = pathlib.Path(__file__).resolve().parent.parent / "stillruns"
+BUILTINS = set("""len range enumerate zip min max sum abs sorted reversed int str bool bytes list tuple dict set
+frozenset isinstance ord repr any all divmod pow iter next map getattr hasattr setattr super property staticmethod
+classmethod Exception ValueError TypeError KeyError IndexError LookupError ZeroDivisionError ArithmeticError
+OverflowError RuntimeError NotImplementedError AttributeError StopIteration NotImplemented""".split())
+LIBRARY = ("heapq", "math", "itertools", "collections")
+FORBIDDEN = (ast.Global, ast.AsyncFunctionDef, ast.Await, ast.Import, ast.Div)
+
+
+def trees():
+    for path in sorted(PACKAGE.rglob("*.py")):
+        yield path, ast.parse(path.read_text(encoding="utf-8"))
+
+
+class Interface(unittest.TestCase):
+    def test_names_and_arguments(self):
+        for owner, name, wanted in [
+            (kinds, "depth", "(kind)"),
+            (editions, "Edition", "(kinds, doors, *, number=(1, 0, 0))"),
+            (editions, "fits", "(edition, given, wanted)"),
+            (terms, "size", "(term)"),
+            (terms, "kind_of", "(edition, term)"),
+            (terms, "runs", "(edition, term)"),
+            (terms, "breaks", "(elder, newer, term)"),
+        ]:
+            with self.subTest(name):
+                self.assertEqual(str(inspect.signature(getattr(owner, name))), wanted)
+                self.assertEqual(getattr(owner, name).__module__, owner.__name__)
+
+
+class Rules(unittest.TestCase):
+    def test_only_plain_files(self):
+        for path in PACKAGE.rglob("*"):
+            if "__pycache__" not in path.parts:
+                self.assertEqual(path.suffix, ".py", path)
+
+    def test_lengths_and_characters(self):
+        for path in PACKAGE.rglob("*.py"):
+            lines = path.read_text(encoding="utf-8").split("\n")
+            self.assertLessEqual(len(lines), 399, path)
+            for line in lines:
+                self.assertLessEqual(len(line), 120, (path, line))
+                self.assertTrue(all(" " <= sign <= "~" for sign in line), (path, line))
+
+    def test_functions_are_short(self):
+        for path, tree in trees():
+            for node in ast.walk(tree):
+                if isinstance(node, ast.FunctionDef):
+                    self.assertLessEqual(node.end_lineno - node.lineno + 1, 40, (path, node.name))
+
+    def test_imports_and_statements(self):
+        for path, tree in trees():
+            for node in ast.walk(tree):
+                self.assertNotIsInstance(node, FORBIDDEN, (path, getattr(node, "lineno", 0)))
+                if isinstance(node, ast.ImportFrom):
+                    self.assertEqual(node.level, 0)
+                    self.assertIn(node.module.split(".")[0], ("stillruns",) + LIBRARY, path)
+
+    def test_builtins(self):
+        others = set(dir(__builtins__) if not isinstance(__builtins__, dict) else __builtins__) - BUILTINS
+        for path, tree in trees():
+            for node in ast.walk(tree):
+                names = [getattr(node, field, None) for field in ("id", "arg")]
+                names += [getattr(node, "name", None)] if not isinstance(node, ast.alias) else []
+                for name in names:
+                    self.assertNotIn(name, others, (path, getattr(node, "lineno", 0)))
+
+    def test_any_and_all_take_lists(self):
+        for path, tree in trees():
+            for node in ast.walk(tree):
+                if isinstance(node, ast.Call) and isinstance(node.func, ast.Name):
+                    if node.func.id in ("any", "all", "min", "max", "sum", "sorted"):
+                        self.assertFalse([each for each in node.args if isinstance(each, ast.GeneratorExp)],
+                                         (path, node.lineno))
+
+
+if __name__ == "__main__":
+    unittest.main()
