@@ -9,13 +9,24 @@ from stillruns.kinds import NUM, TEXT
 
 def parts_of(term):
     """The terms in a term, in their order."""
-    if term[0] in ("num", "text"):
+    if term[0] in ("num", "text", "hole"):
         return []
     if term[0] in ("call", "make", "handed"):
         return [part for _, part in term[-1]]
     if term[0] == "ask":
         return [term[1], *term[2]]
     return [] if term[-1] is None else [term[-1]]
+
+
+def with_parts(term, parts):
+    """A term with other parts, as many, in the place of its own."""
+    if not parts:
+        return term
+    if term[0] in ("call", "make", "handed"):
+        return *term[:-1], tuple([(row[0], part) for row, part in zip(term[-1], parts)])
+    if term[0] == "ask":
+        return "ask", parts[0], tuple(parts[1:])
+    return *term[:-1], parts[0]
 
 
 def are_rising(names):

@@ -1,7 +1,8 @@
 """Terms: programs over the doors and kinds of an edition."""
 
 from stillruns.errors import NoKind
-from stillruns.steps import kind_by_parts, parts_of
+from stillruns.steps import parts_of
+from stillruns.walks import kind_with_holes
 
 
 def size(term):
@@ -17,22 +18,7 @@ def size(term):
 
 def kind_of(edition, term):
     """The kind of a term in an edition; refused with NoKind where it has none."""
-    # A list of terms begun in place of calls within calls: terms may be deeper than Python lets calls be.
-    begun = [(term, parts_of(term), [])]
-    kind = None
-    while begun:
-        at, parts, given = begun[-1]
-        if len(given) < len(parts):
-            part = parts[len(given)]
-            begun.append((part, parts_of(part), []))
-            continue
-        kind, fault = kind_by_parts(edition, at, given)
-        begun.pop()
-        if fault is not None:
-            raise NoKind([len(known) for _, _, known in begun], fault)
-        if begun:
-            begun[-1][2].append(kind)
-    return kind
+    return kind_with_holes(edition, term, {})
 
 
 def runs(edition, term):

@@ -106,3 +106,34 @@ def nested(levels, bottom):
     for _ in range(levels - 1):
         term = ("answer", 0, term)
     return term
+
+
+def record_of_size(wanted):
+    """Declarations of which the last one is of a record whose least term has just this size, and its name."""
+    sizes = [wanted]
+    while sizes[-1] > 2:
+        sizes.append((sizes[-1] - 1) // 2)
+    kinds = []
+    for name, each in zip("abcdefghijkl", reversed(sizes)):
+        fields = [("n", NUM, True)] if each % 2 == 0 else []
+        if kinds:
+            fields += [("x", of(kinds[-1][0]), True), ("y", of(kinds[-1][0]), True)]
+        kinds.append((name, record(*fields)))
+    return kinds, kinds[-1][0]
+
+
+def records_in_a_row(many, fields=6):
+    """Records, each behind the first with so many needed fields of the one ahead; the first one has none."""
+    names = "abcdefghijkl"[:many]
+    kinds = [(names[0], record())]
+    for ahead, name in zip(names, names[1:]):
+        kinds.append((name, record(*[(field, of(ahead), True) for field in "pqrstu"[:fields]])))
+    return kinds
+
+
+def row_size(place, fields=6):
+    """The least size of the record at a place of such a row."""
+    size = 1
+    for _ in range(place):
+        size = 1 + fields * size
+    return size

@@ -5,7 +5,7 @@ import inspect
 import pathlib
 import unittest
 
-from stillruns import editions, kinds, terms
+from stillruns import breaks, bridges, editions, kinds, least, papers, terms
 
 PACKAGE = pathlib.Path(__file__).resolve().parent.parent / "stillruns"
 BUILTINS = set("""len range enumerate zip min max sum abs sorted reversed int str bool bytes list tuple dict set
@@ -31,6 +31,19 @@ class Interface(unittest.TestCase):
             (terms, "kind_of", "(edition, term)"),
             (terms, "runs", "(edition, term)"),
             (terms, "breaks", "(elder, newer, term)"),
+            (least, "sizes", "(edition)"),
+            (least, "least", "(edition, kind, *, limit=200)"),
+            (breaks, "pairs", "(elder, newer)"),
+            (breaks, "least_break", "(elder, newer, *, limit=200)"),
+            (breaks, "break_size", "(elder, newer)"),
+            (breaks, "next_number", "(elder, newer)"),
+            (papers, "relation", "(elder, newer)"),
+            (papers, "relation_holds", "(elder, newer, rows)"),
+            (papers, "table", "(elder, newer)"),
+            (papers, "table_holds", "(elder, newer, rows, *, bound)"),
+            (bridges, "bridged", "(newer, bridge)"),
+            (bridges, "unfolded", "(bridge, term)"),
+            (bridges, "lost_doors", "(elder, newer)"),
         ]:
             with self.subTest(name):
                 self.assertEqual(str(inspect.signature(getattr(owner, name))), wanted)
