@@ -64,11 +64,16 @@ def break_size(elder, newer):
     return None if best is None else best[0]
 
 
-def next_number(elder, newer):
-    """The number of the newer edition, by the elder's and by what breaks either way about."""
-    first, second, third = elder.number
+def number_behind(number, elder, newer):
+    """The number that follows a number of the elder edition, by what breaks either way about."""
+    first, second, third = number
     if break_size(elder, newer) is not None:
         return first + 1, 0, 0
     if break_size(newer, elder) is not None:
         return first, second + 1, 0
     return first, second, third + 1
+
+
+def next_number(elder, newer):
+    """The number of the newer edition, by the elder's own number."""
+    return number_behind(elder.number, elder, newer)

@@ -2,7 +2,11 @@
 
 
 class StillError(ValueError):
-    """Any refusal."""
+    """Any refusal; it knows the name of its class."""
+
+    def __init__(self, message="refused"):
+        super().__init__(f"{message}")
+        self.class_name = self.__class__.__name__
 
 
 class NoEdition(StillError):

@@ -35,6 +35,12 @@ class Errors(unittest.TestCase):
         refusal.place.append(3)
         self.assertEqual(place, [1, 2])
 
+    def test_each_knows_the_name_of_its_class(self):
+        for name in WITH_ONE:
+            self.assertEqual(getattr(errors, name)("x").class_name, name)
+        self.assertEqual(NoKind([], "door").class_name, "NoKind")
+        self.assertEqual(StillError().class_name, "StillError")
+
     def test_each_is_caught_as_still_error_and_as_value_error(self):
         for name in WITH_ONE:
             with self.assertRaises(StillError):

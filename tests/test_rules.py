@@ -5,7 +5,7 @@ import inspect
 import pathlib
 import unittest
 
-from stillruns import breaks, bridges, editions, kinds, least, papers, terms
+from stillruns import breaks, bridges, desk, editions, kinds, least, papers, readings, rows, terms, texts
 
 PACKAGE = pathlib.Path(__file__).resolve().parent.parent / "stillruns"
 BUILTINS = set("""len range enumerate zip min max sum abs sorted reversed int str bool bytes list tuple dict set
@@ -44,10 +44,33 @@ class Interface(unittest.TestCase):
             (bridges, "bridged", "(newer, bridge)"),
             (bridges, "unfolded", "(bridge, term)"),
             (bridges, "lost_doors", "(elder, newer)"),
+            (rows, "together", "(one, other)"),
+            (rows, "numbers", "(editions)"),
+            (rows, "reach", "(editions, at)"),
+            (texts, "show_kind", "(kind)"),
+            (texts, "show_edition", "(edition)"),
+            (texts, "show_term", "(term)"),
+            (readings, "read_kind", "(text)"),
+            (readings, "read_edition", "(text)"),
+            (desk, "Desk", "()"),
+            (desk.Desk, "say", "(self, row)"),
+            (desk.Desk, "book", "(self)"),
+            (desk.Desk, "busy", "(self)"),
+            (desk.Desk, "__len__", "(self)"),
+            (editions.Edition, "kinds", "(self)"),
+            (editions.Edition, "doors", "(self)"),
+            (editions.Edition, "__len__", "(self)"),
+            (editions.Edition, "__eq__", "(self, other)"),
+            (editions.Edition, "__ne__", "(self, other)"),
         ]:
             with self.subTest(name):
                 self.assertEqual(str(inspect.signature(getattr(owner, name))), wanted)
-                self.assertEqual(getattr(owner, name).__module__, owner.__name__)
+                self.assertIn(name, vars(owner))
+                home = owner.__module__ if isinstance(owner, type) else owner.__name__
+                self.assertEqual(getattr(owner, name).__module__, home)
+
+    def test_values(self):
+        self.assertEqual((editions.FIRST, least.LIMIT), ((1, 0, 0), 200))
 
 
 class Rules(unittest.TestCase):

@@ -4,11 +4,16 @@ import random
 import unittest
 
 from stillruns.breaks import break_size, least_break, next_number, pairs
-from stillruns.editions import Edition
+from stillruns.bridges import bridged, lost_doors, unfolded
+from stillruns.desk import Desk
+from stillruns.editions import Edition, fits
 from stillruns.errors import Breaks, Holds, NoKind, TooGreat
 from stillruns.least import least, sizes
 from stillruns.papers import relation, relation_holds, table, table_holds
+from stillruns.readings import read_edition
+from stillruns.rows import numbers, reach, together
 from stillruns.terms import breaks, kind_of, runs, size
+from stillruns.texts import show_edition
 from tests.examples import library, library_doors, library_kinds
 from tests.listing import listed
 from tests.making import changed_edition, made_couple
@@ -141,9 +146,96 @@ class Told(unittest.TestCase):
         self.assertGreater(found, 20)
 
 
+class Mended(unittest.TestCase):
+    """What runs under a bridged edition runs, unfolded, under the newer one, and gives what fits."""
+
+    def bridge_of(self, elder, newer):
+        """A bridge of the lost doors that can be bridged by a least program of their answer."""
+        rows = {name: (parameters, answer) for name, parameters, answer in elder.doors()}
+        bridge = []
+        for name in lost_doors(elder, newer):
+            parameters, answer = rows[name]
+            needed = [(parameter, kind) for parameter, kind, must in parameters if must]
+            fitting = [("hole", parameter) for parameter, kind in needed if fits(newer, kind, answer)]
+            template = fitting[0] if fitting else least(newer, answer)
+            if template is not None and not any(kind[0] == "calls" for _, kind, _ in parameters):
+                bridge.append((name, parameters, answer, template))
+        return bridge
+
+    def test_programs_of_bridged_editions(self):
+        whole = changed = 0
+        for seed in range(150):
+            elder = made_couple(seed)[0]
+            rng = random.Random(seed)
+            kept = [door for door in elder.doors() if rng.random() < 0.4]
+            newer = Edition(elder.kinds(), kept, number=(2, 0, 0))
+            bridge = self.bridge_of(elder, newer)
+            if not bridge:
+                continue
+            with self.subTest(seed=seed):
+                over = bridged(newer, bridge)
+                if not lost_doors(elder, over):
+                    whole += 1
+                    self.assertTrue(relation_holds(elder, over, relation(elder, over)))
+                    self.assertIsNone(least_break(elder, over))
+                for _, kind, term in listed(over, 3):
+                    told = unfolded(bridge, term)
+                    changed += told != term
+                    self.assertTrue(fits(newer, kind_of(newer, told), kind))
+        self.assertGreater(whole, 20)
+        self.assertGreater(changed, 500)
+
+
+class Three(unittest.TestCase):
+    """Three editions that were written and read: relations, numbers and the desk tell the same of them."""
+
+    def told(self, elder, newer):
+        try:
+            return relation(elder, newer)
+        except Breaks:
+            return None
+
+    def test_relations_put_together_and_numbers(self):
+        held = broken = 0
+        for seed in range(200):
+            first, second = made_couple(seed)
+            third = changed_edition(random.Random(seed + 2), second)
+            row = [read_edition(show_edition(edition)) for edition in (first, second, third)]
+            one, other, both = self.told(*row[:2]), self.told(*row[1:]), self.told(first, third)
+            with self.subTest(seed=seed):
+                majors = [number[0] for number in numbers(row)]
+                self.assertEqual(majors, [1, 2 - (one is not None), 3 - (one is not None) - (other is not None)])
+                self.assertEqual(reach(row, 0)[1], 1 if one is None else 2 if both is None else None)
+                if one is not None and other is not None:
+                    held += 1
+                    self.assertTrue(relation_holds(first, third, together(one, other)))
+                    self.assertEqual(reach(row, 0), (2, None))
+                if one is None or other is None:
+                    broken += 1
+                    self.assertEqual(reach(row, 0)[0], 0 if one is None else 1)
+        self.assertGreater(held, 10)
+        self.assertGreater(broken, 50)
+
+    def test_the_desk_tells_just_one_of_two(self):
+        for seed in range(60):
+            elder, newer = made_couple(seed)
+            desk = Desk()
+            desk.say("edition old " + show_edition(elder))
+            desk.say("edition new " + show_edition(newer))
+            with self.subTest(seed=seed):
+                told = self.told(elder, newer)
+                if told is None:
+                    self.assertEqual(desk.say("break old new").split(" ")[0], str(break_size(elder, newer)))
+                    self.assertEqual(desk.say("number old new"), "2.0.0")
+                else:
+                    self.assertEqual(desk.say("break old new"), "none")
+                    self.assertEqual(desk.say("pairs old new"), str(len(told)))
+
+
 class Again(unittest.TestCase):
     def answers(self, elder, newer):
         told = [sizes(elder), pairs(elder, newer), least_break(elder, newer), next_number(elder, newer)]
+        told += [numbers([elder, newer]), reach([newer, elder], 0), show_edition(elder), lost_doors(elder, newer)]
         told += [least(elder, kind) for kind, _ in sizes(elder)]
         try:
             told += [relation(elder, newer)]
@@ -162,7 +254,9 @@ class Again(unittest.TestCase):
     def test_lists_that_are_told_are_new_ones(self):
         elder, newer = library(), Edition(library_kinds(), library_doors()[1:])
         for asked in (lambda: sizes(elder), lambda: pairs(elder, newer), lambda: table(elder, newer),
-                      lambda: relation(newer, elder)):
+                      lambda: relation(newer, elder), lambda: numbers([elder, newer]),
+                      lambda: together(relation(elder, elder), relation(elder, elder)),
+                      lambda: lost_doors(elder, newer), newer.kinds, newer.doors):
             told = asked()
             wanted = list(told)
             told.clear()
